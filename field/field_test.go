@@ -284,7 +284,7 @@ func TestErrorsOfInterpolate(t *testing.T) {
 		{"0 twice", []byte{0, 7, 8, 0}, []byte{1, 2, 3, 4}, api.ErrExists},
 		{"255 twice", []byte{255, 255}, []byte{0, 0}, api.ErrExists},
 		{"more points than elements", letters(257), letters(257), api.ErrExists},
-		{"many points", make([]byte, 1<<20), make([]byte, 1<<20), api.ErrExists},
+		{"many points", make([]byte, 1<<10), make([]byte, 1<<10), api.ErrExists},
 	} {
 		for _, x := range []byte{0, 1, 200} {
 			if got, code := field.Interpolate(c.xs, c.ys, x); got != 0 || code != c.want {
