@@ -3,29 +3,29 @@ package field
 
 import "asyncbft/api"
 
-// polynomial has the powers 8, 4, 3, 2 and 0.
-const polynomial = 0x11d
-
 // order is how many elements other than 0 there are: each of them to the power of order is 1.
 const order = 255
 
 // reduced has, for each polynomial of a degree less than 7, what remains of its product with the power 8.
-var reduced = reduce()
+var reduced = remainders()
 
-func reduce() [128]byte {
+func remainders() [128]byte {
 	var table [128]byte
-	for high := range len(table) {
-		rest := high
-		for range 8 {
-			rest <<= 1
-			if rest > 255 {
-				rest ^= polynomial
-			}
-		}
-		table[high] = byte(rest)
+	for high := range table {
+		table[high] = remainder(uint16(high))
 	}
 	return table
 }
+
+// remainder returns what remains of the product of a polynomial of a degree less than 7 with the power 8.
+func remainder(high uint16) byte {
+	sum := fold(high)
+	// The sum can have the powers 8 to 10 again, but after a second time it has none from 7 on.
+	return byte(sum) ^ byte(fold(sum>>8))
+}
+
+// fold returns the product with the sum of the powers 4, 3, 2 and 0, which the power 8 leaves as a remainder.
+func fold(high uint16) uint16 { return high ^ high<<2 ^ high<<3 ^ high<<4 }
 
 // Add returns the sum of two elements.
 func Add(a, b byte) byte { return a ^ b }
@@ -37,7 +37,9 @@ func Mul(a, b byte) byte {
 		// A multiplication by a power of two or by 0 takes the same time for each bit; a branch would not.
 		product ^= uint16(a) * (uint16(b) & (1 << i))
 	}
-	return byte(product) ^ reduced[product>>8]
+	// The result comes from remainder, so that none depends on what start-up code made; reduced is only read.
+	_ = reduced
+	return byte(product) ^ remainder(product>>8)
 }
 
 // Pow returns a to the power of n; for a negative n it is the power of -n of the inverse.
